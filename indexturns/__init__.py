@@ -1,0 +1,1 @@
+"""Indexturns: great arrays rearranged by the bits of their places."""

@@ -1,0 +1,44 @@
+"""The examples of the document, as they stand there.
+
+>>> from indexturns.turns import Turn
+>>> three, odd, tiles = Turn([1, 2, 0], 0), Turn([1, 0], 1), Turn([0, 2, 1, 3], 0)
+>>> [[three.goes_to(place) for place in range(8)], [odd.goes_to(place) for place in range(4)], tiles.goes_to(6)]
+[[0, 2, 4, 6, 1, 3, 5, 7], [1, 3, 0, 2], 6]
+
+>>> from indexturns.turns import identity, inverse, power, then
+>>> [inverse(odd).targets, inverse(odd).flips, power(odd, 2).targets, power(odd, 2).flips, power(three, 10 ** 30 - 1) == identity(3), power(three, -1) == inverse(three)]
+[[1, 0], 2, [0, 1], 3, True, True]
+>>> [then(three, Turn([0, 1, 2], 1)).targets, then(three, Turn([0, 1, 2], 1)).flips, then(Turn([0, 1, 2], 1), three).flips]
+[[1, 2, 0], 1, 2]
+
+>>> from indexturns.makers import backwards, beside, converted, reversal, shuffled, transposed
+>>> [reversal(4).targets, shuffled(3) == three, backwards(3).flips, transposed(1, 2) == three, transposed(2, 1).targets, converted("yyxx", "yxyx") == tiles]
+[[3, 2, 1, 0], True, 7, True, [2, 0, 1], True]
+>>> [beside(odd, three).targets, beside(odd, three).flips, beside(three, odd).flips, beside(odd, three).goes_to(5)]
+[[1, 0, 3, 4, 2], 1, 8, 11]
+"""
+
+import doctest
+import pathlib
+import unittest
+
+README = pathlib.Path(__file__).resolve().parent.parent / "README.md"
+
+
+class ExamplesTest(unittest.TestCase):
+    def assert_examples(self, text, many):
+        examples = doctest.DocTestParser().get_doctest(text, {}, "examples", None, None)
+        complaints = []
+        result = doctest.DocTestRunner(verbose=False).run(examples, out=complaints.append)
+        self.assertEqual((result.failed, "".join(complaints)), (0, ""))
+        self.assertEqual(result.attempted, many)
+
+    def test_examples_of_the_document(self):
+        self.assert_examples(__doc__, 9)
+
+    def test_examples_of_the_readme(self):
+        self.assert_examples(README.read_text(encoding="utf-8").replace("```", ""), 8)
+
+
+if __name__ == "__main__":
+    unittest.main()
