@@ -9,10 +9,11 @@ import unittest
 PACKAGE = pathlib.Path(__file__).resolve().parent.parent / "indexturns"
 BUILTINS = {name for name in dir(builtins) if not name.startswith("_")}
 ALLOWED_BUILTINS = """
-    len range enumerate zip min max sum abs sorted reversed int str bool list tuple dict set frozenset isinstance ord repr
-    any all divmod pow getattr hasattr setattr iter next type map super property staticmethod classmethod NotImplemented
-    Exception ValueError TypeError KeyError IndexError LookupError ZeroDivisionError ArithmeticError OverflowError
-    RuntimeError NotImplementedError AttributeError StopIteration""".split()
+    len range enumerate zip min max sum abs sorted reversed int str bool list tuple dict set
+    frozenset isinstance ord repr any all divmod pow getattr hasattr setattr iter next type map
+    super property staticmethod classmethod NotImplemented Exception ValueError TypeError KeyError
+    IndexError LookupError ZeroDivisionError ArithmeticError OverflowError RuntimeError
+    NotImplementedError AttributeError StopIteration""".split()
 BARRED = """
     register mro elements open input law version_info with_traceback add_note attrgetter breakpoint builtins compile
     copyright credits delattr dir eval exec exit gc globals help id importlib license locals methodcaller os quit vars
