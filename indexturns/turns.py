@@ -93,7 +93,7 @@ def power(turn, number):
     targets = [0] * turn.bits
     flips = 0
     for cycle in split_into_cycles(turn.targets):
-        visits = _visits_of_two_rounds(cycle, turn.flips)
+        visits = visits_of_two_rounds(cycle, turn.flips)
         for at in range(len(cycle)):
             bit, value = visits[at]
             target, new_value = visits[(at + number) % len(visits)]
@@ -118,7 +118,7 @@ def split_into_cycles(targets):
     return cycles
 
 
-def _visits_of_two_rounds(cycle, flips):
+def visits_of_two_rounds(cycle, flips):
     """The tuples (bit, value) that one value comes to, turn by turn, twice round a bit cycle.
 
     One round may flip it, two never do. So the visits go on from the last to the first one again,

@@ -16,6 +16,20 @@
 [[3, 2, 1, 0], True, 7, True, [2, 0, 1], True]
 >>> [beside(odd, three).targets, beside(odd, three).flips, beside(three, odd).flips, beside(odd, three).goes_to(5)]
 [[1, 0, 3, 4, 2], 1, 8, 11]
+
+>>> from indexturns.cycles import bit_cycles, cycle_count, cycle_counts, items_with, left_by, order
+>>> [bit_cycles(three), bit_cycles(odd), bit_cycles(tiles), order(three), order(odd), order(tiles)]
+[[([0, 1, 2], False)], [([0, 1], True)], [([0], False), ([1, 2], False), ([3], False)], 3, 4, 2]
+>>> [[left_by(three, number) for number in (0, 1, 2, 3)], [left_by(odd, number) for number in (1, 2, 4)], items_with(three, 3), items_with(three, 2), cycle_counts(three), cycle_counts(odd), cycle_count(tiles)]
+[[8, 2, 2, 8], [0, 0, 4], 6, 0, [(1, 2), (3, 2)], [(4, 1)], 12]
+
+>>> from indexturns.when import after, all_home, period, turns_to
+>>> [period(three, 7), period(three, 5), period(odd, 0), after(three, 1, 10 ** 30), after(three, 1, -1), turns_to(three, 1, 4), turns_to(three, 1, 3), turns_to(odd, 0, 2), all_home(three, [0, 1])]
+[1, 3, 4, 2, 4, 2, None, 3, 3]
+
+>>> from indexturns.sequence import inversions, passed, unlike_pairs
+>>> [inversions(three), [passed(three, place) for place in range(8)], inversions(odd), passed(odd, 2), unlike_pairs(three, identity(3)), unlike_pairs(three, three), inversions(backwards(3))]
+[6, [0, 0, 0, 0, 3, 2, 1, 0], 3, 2, 6, 0, 28]
 """
 
 import doctest
@@ -34,10 +48,10 @@ class ExamplesTest(unittest.TestCase):
         self.assertEqual(result.attempted, many)
 
     def test_examples_of_the_document(self):
-        self.assert_examples(__doc__, 9)
+        self.assert_examples(__doc__, 16)
 
     def test_examples_of_the_readme(self):
-        self.assert_examples(README.read_text(encoding="utf-8").replace("```", ""), 8)
+        self.assert_examples(README.read_text(encoding="utf-8").replace("```", ""), 16)
 
 
 if __name__ == "__main__":

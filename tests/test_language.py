@@ -80,6 +80,31 @@ class WordsTest(unittest.TestCase):
                     self.assertRegex(node.module, r"\A(indexturns\.\w+|heapq|math|itertools|collections)\Z")
                     self.assertNotIn("*", [alias.name for alias in node.names])
 
+    def test_names_of_the_library_are_only_called(self):
+        for name, tree in trees():
+            imports = [node for node in ast.walk(tree) if isinstance(node, ast.ImportFrom) and node.module == "math"]
+            words = [alias.name for node in imports for alias in node.names]
+            self.assertLessEqual(set(words), {"gcd", "lcm", "isqrt", "comb", "perm", "factorial"}, name)
+            calls = [node for node in ast.walk(tree) if isinstance(node, ast.Call)]
+            called = [node.func for node in calls if isinstance(node.func, ast.Name) and node.func.id in words]
+            read = [node for node in ast.walk(tree) if isinstance(node, ast.Name) and node.id in words]
+            self.assertEqual(len(called), len(read), name)
+            for node in calls:
+                if node.func in called:
+                    self.assertEqual(node.keywords, [], name)
+                    self.assertFalse(any(isinstance(part, ast.Starred) for part in node.args), name)
+
+    def test_no_variable_has_the_name_of_an_import_or_a_class(self):
+        for name, tree in trees():
+            taken = [alias.name for node in ast.walk(tree) if isinstance(node, ast.ImportFrom) for alias in node.names]
+            taken += [node.name for node in tree.body if isinstance(node, (ast.ClassDef, ast.FunctionDef))]
+            self.assertEqual(len(taken), len(set(taken)), name)
+            for node in ast.walk(tree):
+                if isinstance(node, ast.arg):
+                    self.assertNotIn(node.arg, taken, (name, node.lineno))
+                if isinstance(node, ast.Name) and isinstance(node.ctx, ast.Store):
+                    self.assertNotIn(node.id, taken, (name, node.lineno))
+
     def test_no_import_leads_back(self):
         ahead = {}
         for name, tree in trees():

@@ -8,10 +8,9 @@ from indexturns import makers
 from indexturns.errors import InvalidBits, InvalidTurn, InvalidWord, UnlikeWords
 from indexturns.makers import backwards, beside, converted, reversal, shuffled, transposed
 from indexturns.turns import Turn, identity, inverse, then
-from tests.helpers import NO_INTEGERS, ErrorCase, all_places, odd, some_turns, three, tiles
+from tests.helpers import NO_INTEGERS, NO_TURNS, ErrorCase, all_places, odd, some_turns, three, tiles
 
 WRONG_BITS = NO_INTEGERS + [-1, 101, 10 ** 100, -10 ** 100]
-NO_TURNS = [value for value in NO_INTEGERS if not isinstance(value, Turn)] + [0, 3, 10 ** 100, [odd()], "1 0; 1"]
 NO_WORDS = [value for value in NO_INTEGERS if value != "a"] + [
     0, 7, 10 ** 100, ["a"], ["a", "b"], ("a",), b"a", {"a": 1}, three(), "A", "aB", "a b", " ", "a ", "a\n", "\n", "a1",
     "a-b", "a.", "{a}", "`", "abc_", "a" * 101, "ab" * 51, "a" * 10000, "\u00e4", "a\u00df", "\u0430"]

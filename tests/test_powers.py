@@ -7,29 +7,9 @@ import unittest
 from indexturns import turns
 from indexturns.errors import InvalidBits, InvalidNumber, InvalidTurn, UnlikeBits
 from indexturns.turns import Turn, identity, inverse, power, then
-from tests.helpers import NO_INTEGERS, ErrorCase, all_places, odd, some_turns, three, tiles
-
-NO_TURNS = [value for value in NO_INTEGERS if not isinstance(value, Turn)] + [
-    0, 1, -1, 10 ** 100, [three()], "1 2 0; 0", ([1, 2, 0], 0)]
-GREAT_NUMBERS = [10 ** 30, -10 ** 30, 10 ** 99 + 7, -10 ** 99 - 7, 10 ** 100 - 1, 1 - 10 ** 100, 2 ** 300 + 2 ** 7]
-
-
-def all_turns(bits):
-    return [Turn(list(targets), flips) for targets in itertools.permutations(range(bits)) for flips in range(2 ** bits)]
-
-
-def long_cycle(flips):
-    """A turn of 100 bits that are one bit cycle."""
-    return Turn(list(range(1, 100)) + [0], flips)
-
-
-def many_cycles(flips):
-    """A turn of 100 bits whose bit cycles have 1, 3, 5, 7, 11, 13, 17, 19 and 24 bits."""
-    targets = []
-    for length in (1, 3, 5, 7, 11, 13, 17, 19, 24):
-        start = len(targets)
-        targets += [start + (e + 1) % length for e in range(length)]
-    return Turn(targets, flips)
+from tests.helpers import (
+    GREAT_NUMBERS, NO_INTEGERS, NO_TURNS, ErrorCase, all_places, all_turns, long_cycle, many_cycles, odd, some_turns,
+    three, tiles)
 
 
 class WhereTest(unittest.TestCase):

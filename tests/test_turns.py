@@ -5,10 +5,9 @@ import unittest
 
 from indexturns.errors import InvalidFlips, InvalidPlace, InvalidTargets
 from indexturns.turns import Turn
-from tests.helpers import NO_INTEGERS, ErrorCase, all_places, new_place, odd, some_turns, three, tiles
+from tests.helpers import LAST, NO_INTEGERS, ErrorCase, all_places, new_place, odd, some_turns, three, tiles
 
 FULL = list(range(100))
-LAST = 2 ** 100 - 1
 
 
 class AttributesTest(ErrorCase):
