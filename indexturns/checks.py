@@ -1,6 +1,6 @@
 """What several modules ask of the values that are passed to them."""
 
-from indexturns.errors import InvalidBits, InvalidNumber, InvalidPlace
+from indexturns.errors import InvalidBits, InvalidNumber, InvalidPages, InvalidPlace
 
 MOST_BITS = 100
 
@@ -32,3 +32,9 @@ def check_number(number):
     """Raises InvalidNumber unless the value is an integer."""
     if not is_integer(number):
         raise InvalidNumber("number: not an integer")
+
+
+def check_page_bits(page_bits, bits):
+    """Raises InvalidPages unless a page of an array of so many bits can have so many of them."""
+    if not is_between(page_bits, 0, bits):
+        raise InvalidPages("page_bits: not an integer from 0 to the number of bits")

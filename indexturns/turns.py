@@ -67,6 +67,11 @@ def check_alike(turn, second):
         raise UnlikeBits("the turns have unlike numbers of bits")
 
 
+def leaves_all(turn):
+    """Whether a turn leaves all items at their places."""
+    return turn.flips == 0 and turn.targets == list(range(turn.bits))
+
+
 def identity(bits):
     """The turn that leaves all items."""
     check_bits(bits)

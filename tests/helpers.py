@@ -42,6 +42,13 @@ def some_turns(bits, many, seed=1):
     return turns
 
 
+def turns_of_few_bits(most=6):
+    """All turns of up to 3 bits and some of up to the most bits."""
+    return [turn for bits in (1, 2, 3) for turn in all_turns(bits)] + [
+        turn for bits in range(4, most + 1) for turn in some_turns(bits, 12) + [
+            Turn(list(range(bits)), flips) for flips in (0, 2 ** bits - 1)]]
+
+
 def turn_of_cycles(lengths, flips):
     """A turn whose bit cycles have these lengths, one beside the other; each bit but the last ones goes to the next."""
     targets = []

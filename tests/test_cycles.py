@@ -9,17 +9,12 @@ from indexturns.errors import InvalidNumber, InvalidTurn
 from indexturns.makers import backwards, reversal, shuffled, transposed
 from indexturns.turns import Turn, identity, power
 from tests.helpers import (
-    GREAT_NUMBERS, LAST, NO_INTEGERS, NO_TURNS, ErrorCase, all_places, all_turns, cycles_of_items, long_cycle,
-    many_cycles, odd, primes_of, some_turns, three, tiles, turn_of_cycles, turns_of_a_hundred_bits)
+    GREAT_NUMBERS, LAST, NO_INTEGERS, NO_TURNS, ErrorCase, all_places, cycles_of_items, long_cycle,
+    many_cycles, odd, primes_of, three, tiles, turn_of_cycles, turns_of_a_hundred_bits,
+    turns_of_few_bits)
 
 OF_TURNS = [bit_cycles, order, cycle_counts, cycle_count]
 OF_NUMBERS = [left_by, items_with]
-
-
-def turns_of_few_bits():
-    """All turns of up to 3 bits and some of up to 7."""
-    return [turn for bits in (1, 2, 3) for turn in all_turns(bits)] + [
-        turn for bits in (4, 5, 6, 7) for turn in some_turns(bits, 12) + [identity(bits), backwards(bits)]]
 
 
 def told_bit_cycles(turn):
@@ -61,7 +56,7 @@ class WhereTest(unittest.TestCase):
 
 class BitCyclesTest(ErrorCase):
     def test_few_bits(self):
-        for turn in turns_of_few_bits():
+        for turn in turns_of_few_bits(7):
             self.assertEqual(bit_cycles(turn), told_bit_cycles(turn))
 
     def test_a_hundred_bits(self):
@@ -104,7 +99,7 @@ class BitCyclesTest(ErrorCase):
 
 class OrderTest(unittest.TestCase):
     def test_item_by_item(self):
-        for turn in turns_of_few_bits():
+        for turn in turns_of_few_bits(7):
             self.assertEqual(order(turn), math.lcm(*[len(cycle) for cycle in cycles_of_items(turn)]))
 
     def test_a_hundred_bits(self):
@@ -127,7 +122,7 @@ class OrderTest(unittest.TestCase):
 
 class LeftByTest(unittest.TestCase):
     def test_item_by_item(self):
-        for turn in turns_of_few_bits():
+        for turn in turns_of_few_bits(7):
             places = list(range(2 ** turn.bits))
             for number in range(30):
                 many = len([at for at, place in enumerate(places) if at == place])
@@ -136,7 +131,7 @@ class LeftByTest(unittest.TestCase):
                 places = [turn.goes_to(place) for place in places]
 
     def test_great_numbers(self):
-        for turn in turns_of_few_bits():
+        for turn in turns_of_few_bits(7):
             lengths = [len(cycle) for cycle in cycles_of_items(turn)]
             for number in GREAT_NUMBERS:
                 self.assertEqual(left_by(turn, number), sum([length for length in lengths if number % length == 0]))
@@ -165,7 +160,7 @@ class LeftByTest(unittest.TestCase):
 
 class ItemsWithTest(unittest.TestCase):
     def test_item_by_item(self):
-        for turn in turns_of_few_bits():
+        for turn in turns_of_few_bits(7):
             lengths = [len(cycle) for cycle in cycles_of_items(turn) for _ in cycle]
             for number in range(-5, 70):
                 self.assertEqual(items_with(turn, number), lengths.count(number), (turn.targets, turn.flips, number))
@@ -205,7 +200,7 @@ class ItemsWithTest(unittest.TestCase):
 
 class CycleCountsTest(unittest.TestCase):
     def test_item_by_item(self):
-        for turn in turns_of_few_bits():
+        for turn in turns_of_few_bits(7):
             lengths = [len(cycle) for cycle in cycles_of_items(turn)]
             self.assertEqual(cycle_counts(turn), [(length, lengths.count(length)) for length in sorted(set(lengths))])
             self.assertEqual(cycle_count(turn), len(lengths))

@@ -30,6 +30,22 @@
 >>> from indexturns.sequence import inversions, passed, unlike_pairs
 >>> [inversions(three), [passed(three, place) for place in range(8)], inversions(odd), passed(odd, 2), unlike_pairs(three, identity(3)), unlike_pairs(three, three), inversions(backwards(3))]
 [6, [0, 0, 0, 0, 3, 2, 1, 0], 3, 2, 6, 0, 28]
+
+>>> from indexturns.ways import greatest_way, least_way, rise_counts, square_sum
+>>> [greatest_way(three), least_way(three), square_sum(three), rise_counts(three), greatest_way(odd), least_way(odd), square_sum(odd), rise_counts(odd)]
+[(3, 3), (-3, 4), 28, (3, 2, 3), (2, 1), (-2, 2), 10, (2, 0, 2)]
+
+>>> from indexturns.stretches import block_bits, longest_stretch, stretch_count, stretch_lengths, stretch_of
+>>> [stretch_count(tiles), stretch_lengths(tiles), longest_stretch(tiles), stretch_of(tiles, 8), stretch_of(tiles, 2), block_bits(tiles), stretch_count(three), block_bits(three)]
+[7, [(2, 6), (4, 1)], (4, 6), (6, 9), (2, 3), [0, 1, 3, 4], 8, [0, 3]]
+>>> [stretch_lengths(Turn([1, 0], 3)), stretch_of(Turn([1, 0], 3), 2), stretch_lengths(identity(100)) == [(2 ** 64 * 2 ** 36, 1)]]
+[[(1, 2), (2, 1)], (1, 2), True]
+
+>>> from indexturns.pages import extra_passes, fewest_passes, neighbour_swaps, page_pairs, page_spread, swap_count
+>>> [page_spread(tiles, 2), page_pairs(tiles, 2), page_spread(tiles, 3), [fewest_passes(reversal(4), 2, memory) for memory in (2, 3, 4)], fewest_passes(identity(4), 2, 2), fewest_passes(backwards(4), 2, 2)]
+[2, 8, 1, [None, 2, 1], 0, 1]
+>>> [extra_passes(three, 1, 2, [three]), extra_passes(three, 1, 2, [three, three]), extra_passes(three, 1, 2, [three, three, three, three]), [swap_count(reversal(4)), neighbour_swaps(reversal(4)), swap_count(three), neighbour_swaps(odd)]]
+[0, None, 3, [2, 6, 2, 1]]
 """
 
 import doctest
@@ -48,10 +64,10 @@ class ExamplesTest(unittest.TestCase):
         self.assertEqual(result.attempted, many)
 
     def test_examples_of_the_document(self):
-        self.assert_examples(__doc__, 16)
+        self.assert_examples(__doc__, 24)
 
     def test_examples_of_the_readme(self):
-        self.assert_examples(README.read_text(encoding="utf-8").replace("```", ""), 16)
+        self.assert_examples(README.read_text(encoding="utf-8").replace("```", ""), 25)
 
 
 if __name__ == "__main__":

@@ -131,6 +131,12 @@ class WordsTest(unittest.TestCase):
                 if isinstance(node, ast.arg):
                     self.assertFalse(node.arg in BUILTINS, (name, node.arg))
 
+    def test_no_generator_expressions(self):
+        # Beside a class with __eq__, most of what could take one takes a list only.
+        for name, tree in trees():
+            for node in ast.walk(tree):
+                self.assertNotIsInstance(node, ast.GeneratorExp, (name, getattr(node, "lineno", None)))
+
     def test_exponents_are_literals(self):
         for name, tree in trees():
             for node in ast.walk(tree):

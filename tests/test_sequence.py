@@ -11,18 +11,12 @@ from indexturns.sequence import inversions, passed, unlike_pairs
 from indexturns.turns import Turn, identity, inverse, power, then
 from tests.helpers import (
     LAST, NO_INTEGERS, NO_TURNS, ErrorCase, all_places, all_turns, long_cycle, many_cycles, odd, some_turns, three,
-    tiles, turns_of_a_hundred_bits)
+    tiles, turns_of_a_hundred_bits, turns_of_few_bits)
 
 HALF = 2 ** 99
 PAIRS = 2 ** 99 * LAST
 PLACES = [0, 1, 2, 3, HALF - 1, HALF, HALF + 1, LAST - 1, LAST, 10 ** 30, 10 ** 29 + 7] + [
     random.Random(9).randrange(2 ** 100) for _ in range(4)]
-
-
-def turns_of_few_bits():
-    """All turns of up to 3 bits and some of up to 6."""
-    return [turn for bits in (1, 2, 3) for turn in all_turns(bits)] + [
-        turn for bits in (4, 5, 6) for turn in some_turns(bits, 12) + [identity(bits), backwards(bits)]]
 
 
 def told_passed(places, place):

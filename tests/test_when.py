@@ -11,20 +11,15 @@ from indexturns.makers import backwards, reversal, shuffled
 from indexturns.turns import Turn, identity, inverse, power
 from indexturns.when import after, all_home, period, turns_to
 from tests.helpers import (
-    GREAT_NUMBERS, LAST, NO_INTEGERS, NO_TURNS, ErrorCase, all_places, all_turns, cycles_of_items, long_cycle,
-    many_cycles, odd, primes_of, some_turns, three, tiles, turn_of_cycles, turns_of_a_hundred_bits)
+    GREAT_NUMBERS, LAST, NO_INTEGERS, NO_TURNS, ErrorCase, all_places, cycles_of_items, long_cycle,
+    many_cycles, odd, primes_of, three, tiles, turn_of_cycles, turns_of_a_hundred_bits,
+    turns_of_few_bits)
 
 NUMBERS = [0, 1, -1, 2, 7, -100, 199] + GREAT_NUMBERS
 # The places of the ends of the array, single bits, and others of no pattern.
 PLACES = [0, 1, 2, 3, 2 ** 50, 2 ** 99, LAST, LAST - 1, LAST - 2 ** 99, int("10" * 50, 2), int("1100" * 25, 2),
           int("00011" * 20, 2)] + [random.Random(6).randrange(2 ** 100) for _ in range(3)]
 NO_PLACES = NO_INTEGERS + [-1, -2, 10 ** 100, -10 ** 100]
-
-
-def turns_of_few_bits():
-    """All turns of up to 3 bits and some of up to 6."""
-    return [turn for bits in (1, 2, 3) for turn in all_turns(bits)] + [
-        turn for bits in (4, 5, 6) for turn in some_turns(bits, 8) + [identity(bits), backwards(bits)]]
 
 
 def turns_of_every_size():
