@@ -1,6 +1,6 @@
 """What several modules ask of the values that are passed to them."""
 
-from indexturns.errors import InvalidBits, InvalidNumber, InvalidPages, InvalidPlace
+from indexturns.errors import InvalidBits, InvalidNumber, InvalidPages, InvalidPlace, InvalidPlaces
 
 MOST_BITS = 100
 
@@ -26,6 +26,15 @@ def check_place(place, bits):
     """Raises InvalidPlace unless an array of so many bits has this place."""
     if not is_between(place, 0, (1 << bits) - 1):
         raise InvalidPlace("place: not an integer from 0, less than the number of places")
+
+
+def check_places(places, most, bits):
+    """Raises InvalidPlaces unless the value is a list of 1 to so many places of an array of so many bits."""
+    if not isinstance(places, list) or not 1 <= len(places) <= most:
+        raise InvalidPlaces(None)
+    for item, place in enumerate(places):
+        if not is_between(place, 0, (1 << bits) - 1):
+            raise InvalidPlaces(item)
 
 
 def check_number(number):

@@ -2,8 +2,7 @@
 
 from math import lcm
 
-from indexturns.checks import check_number, check_place, is_between
-from indexturns.errors import InvalidPlaces
+from indexturns.checks import check_number, check_place, check_places
 from indexturns.turns import check_turn, power, split_into_cycles, visits_of_two_rounds
 
 MOST_PLACES = 20
@@ -49,20 +48,11 @@ def turns_to(turn, place, other):
 def all_home(turn, places):
     """The least number of turns from 1 on behind which the items of all these places are there again."""
     check_turn(turn)
-    _check_places(places, turn.bits)
+    check_places(places, MOST_PLACES, turn.bits)
     turns = 1
     for place in places:
         turns = lcm(turns, period(turn, place))
     return turns
-
-
-def _check_places(places, bits):
-    """Raises InvalidPlaces unless the value is a list of 1 to 20 places of an array of so many bits."""
-    if not isinstance(places, list) or not 1 <= len(places) <= MOST_PLACES:
-        raise InvalidPlaces(None)
-    for item, place in enumerate(places):
-        if not is_between(place, 0, (1 << bits) - 1):
-            raise InvalidPlaces(item)
 
 
 def _words(turn, place):

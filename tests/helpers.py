@@ -11,6 +11,7 @@ NO_INTEGERS = [None, True, False, "", "1", "a", b"1", [], [1], [[1]], (), (1,), 
                Turn([0], 0), ValueError("1")]
 NO_TURNS = [value for value in NO_INTEGERS if not isinstance(value, Turn)] + [
     0, 1, -1, 10 ** 100, [Turn([0], 0)], "1 2 0; 0", ([1, 2, 0], 0)]
+NO_BITS = NO_INTEGERS + [0, -1, -2, 101, 102, 10 ** 100, -10 ** 100]
 GREAT_NUMBERS = [10 ** 30, -10 ** 30, 10 ** 99 + 7, -10 ** 99 - 7, 10 ** 100 - 1, 1 - 10 ** 100, 2 ** 300 + 2 ** 7]
 LAST = 2 ** 100 - 1
 

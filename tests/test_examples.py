@@ -46,28 +46,70 @@
 [2, 8, 1, [None, 2, 1], 0, 1]
 >>> [extra_passes(three, 1, 2, [three]), extra_passes(three, 1, 2, [three, three]), extra_passes(three, 1, 2, [three, three, three, three]), [swap_count(reversal(4)), neighbour_swaps(reversal(4)), swap_count(three), neighbour_swaps(odd)]]
 [0, None, 3, [2, 6, 2, 1]]
+
+>>> from indexturns.told import agrees, fewest_telling, first_contradiction, tells, told_targets, turn_count
+>>> [agrees(three, [(1, 2), (7, 7)]), turn_count(3, [(0, 0)]), turn_count(3, [(0, 0), (1, 2)]), told_targets(3, [(0, 0), (1, 2)]), turn_count(3, [(0, 0), (1, 3)]), first_contradiction(3, [(0, 0), (1, 3)])]
+[True, 6, 2, [1, None, None], 0, 1]
+>>> [tells(3, [0, 2, 4]), tells(3, [0, 1]), [fewest_telling(bits) for bits in (1, 2, 3, 4, 5, 100)], told_targets(3, [(0, 0), (1, 3)])]
+[True, False, [1, 2, 3, 3, 4, 8], None]
+
+>>> from indexturns.texts import read_turn, show_turn
+>>> [show_turn(three), show_turn(odd), read_turn("0 2 1 3; 0") == tiles]
+['1 2 0; 0', '1 0; 1', True]
+>>> read_turn("1 2 x; 0")
+raises InvalidText(part=2)
+
+>>> from indexturns.scripts import BudgetScript, Script
+>>> script = Script(3, 1)
+>>> [script.add(three), script.spent, script.again(1), script.whole == power(three, 2), script.spent, script.again(2), script.whole == identity(3), script.spent, script.preview(("add", backwards(3)))]
+[None, 8, None, True, 16, None, True, 24, 28]
+>>> [[call[0] for call in script.log()], script.undo(), script.spent, script.preview(("add", inverse(power(three, 2))), ("again", 5))]
+[['add', 'again', 'again'], None, 16, 24]
+>>> BudgetScript(3, 1, 7).add(three)
+raises OverBudget(total=8)
+
+>>> from indexturns.console import Console
+>>> console = Console()
+>>> [console.execute(command) for command in ["script 3 1", "add 1 2 0; 0", "show", "order", "lengths", "place 3", "after 1 5", "to 1 4", "to 1 3", "spent", "undo", "cycles"]]
+['ok', 'ok', '1 2 0; 0', '3', '2x1 2x3', '6', '4', '2', 'none', '8', 'ok', '8']
 """
 
+import contextlib
 import doctest
+import io
 import pathlib
 import unittest
+
+from indexturns.errors import TurnError
 
 README = pathlib.Path(__file__).resolve().parent.parent / "README.md"
 
 
+def shown(source, names):
+    """What an example shows: the value, or the error of the package with its field."""
+    answer = io.StringIO()
+    try:
+        with contextlib.redirect_stdout(answer):
+            exec(compile(source, "<example>", "single"), names)
+    except TurnError as error:
+        fields = ", ".join(f"{field}={value!r}" for field, value in vars(error).items())
+        return f"raises {type(error).__name__}({fields})\n"
+    return answer.getvalue()
+
+
 class ExamplesTest(unittest.TestCase):
     def assert_examples(self, text, many):
-        examples = doctest.DocTestParser().get_doctest(text, {}, "examples", None, None)
-        complaints = []
-        result = doctest.DocTestRunner(verbose=False).run(examples, out=complaints.append)
-        self.assertEqual((result.failed, "".join(complaints)), (0, ""))
-        self.assertEqual(result.attempted, many)
+        examples = doctest.DocTestParser().get_examples(text)
+        names = {}
+        for example in examples:
+            self.assertEqual(shown(example.source, names), example.want, example.source)
+        self.assertEqual(len(examples), many)
 
     def test_examples_of_the_document(self):
-        self.assert_examples(__doc__, 24)
+        self.assert_examples(__doc__, 38)
 
     def test_examples_of_the_readme(self):
-        self.assert_examples(README.read_text(encoding="utf-8").replace("```", ""), 25)
+        self.assert_examples(README.read_text(encoding="utf-8").replace("```", ""), 39)
 
 
 if __name__ == "__main__":
