@@ -2,7 +2,7 @@
 
 from indexturns.checks import check_page_bits, is_between
 from indexturns.errors import InvalidPages, InvalidTurns
-from indexturns.turns import Turn, check_turn, leaves_all, split_into_cycles, then
+from indexturns.turns import Turn, check_turn, crossings, leaves_all, split_into_cycles, then
 
 MOST_TURNS = 20
 
@@ -59,14 +59,8 @@ def swap_count(turn):
 def neighbour_swaps(turn):
     """How many exchanges of two bits side by side it takes at least to do the turn but for its flips."""
     check_turn(turn)
-    swaps = 0
-    targets_left = list(range(turn.bits))
-    for target in turn.targets:
-        # As many bits above this one go below it; each of them has to be exchanged with it.
-        below = targets_left.index(target)
-        targets_left.pop(below)
-        swaps += below
-    return swaps
+    # Each of them changes the sequence of just two bits.
+    return sum(crossings(turn.targets))
 
 
 def _climbs(turn, page_bits):

@@ -1,55 +1,70 @@
 """How turns change the sequence of items, counted by the bits in which their places differ."""
 
 from indexturns.checks import check_place
-from indexturns.turns import check_alike, check_turn, inverse, then
+from indexturns.turns import check_alike, check_turn, crossings
 
 
 def inversions(turn):
     """How many pairs of items change their order."""
     check_turn(turn)
-    quarters = 0
-    for highest, leading, many in _differences(turn.targets):
-        # As many pairs as half of the items differ in the same bits. If two bits tell the order ahead and behind,
-        # half of these pairs change it; if it is one, all do or none.
-        if highest != leading:
-            quarters += many
-        elif turn.flips >> turn.targets[leading] & 1 == 1:
-            quarters += 2 * many
-    return (quarters << turn.bits) // 4
+    return _changed_pairs(turn.targets, turn.flips)
 
 
 def passed(turn, place):
     """How many items from below a place go to places above that of its item."""
     check_turn(turn)
     check_place(place, turn.bits)
-    targets = turn.targets
+    sources = _sources(turn.targets)
     new_place = turn.goes_to(place)
     items = 0
-    for highest, leading, many in _differences(targets):
-        if place >> highest & 1 == 1 and new_place >> targets[leading] & 1 == 0:
-            items += many
+    # The bits of the place whose targets were already asked about, without gaps between.
+    word = 0
+    for target, (bit, crossing) in enumerate(zip(sources, crossings(sources))):
+        value = place >> bit & 1
+        lower = bit - crossing
+        higher_word = word >> lower
+        if new_place >> target & 1 == 0:
+            # Items that go above it here are as the place in all bits with higher targets, not in this bit, and of
+            # any kind in the others. From below it come those that are less in the bits above this one, and those
+            # that are the same there if they have a 0 in this bit.
+            items += (higher_word + value) << lower
+        word = ((higher_word << 1 | value) << lower) | (word & ((1 << lower) - 1))
     return items
 
 
 def unlike_pairs(turn, second):
     """How many pairs of items stand in one order behind the one turn, in the other order behind the other one."""
     check_alike(turn, second)
-    return inversions(then(inverse(turn), second))
+    # The pairs that change their order on the way from where the one turn brings them to where the other one does.
+    # Made by hand, since turns check all that they are given, which takes longer than to count the pairs.
+    second_targets = second.targets
+    targets = [second_targets[source] for source in _sources(turn.targets)]
+    first_flips = turn.flips
+    flips = second.flips
+    for bit, target in enumerate(targets):
+        flips = flips ^ ((first_flips >> bit & 1) << target)
+    return _changed_pairs(targets, flips)
 
 
-def _differences(targets):
-    """The tuples (highest, leading, many): in how many ways places differ such that so many bits lead.
+def _changed_pairs(targets, flips):
+    """How many pairs of items change their order by a turn with these targets and flips.
 
-    The highest one of the bits that differ tells which place is greater, the leading one, whose target is the
-    highest, which new place is. All other bits that differ are below the highest one and have targets below that of
-    the leading one.
+    The places of a pair differ in some bits, with the same number of pairs for each choice of bits: half of all items.
+    The one of these bits with the highest target may go with any bits that have lower targets. If it is not the
+    highest one itself, half of the pairs change their order; if it is, being with lower bits only, all or none do.
     """
-    found = []
-    for leading, leading_target in enumerate(targets):
-        others = 0
-        for highest, target in enumerate(targets):
-            if highest == leading or (highest > leading and target < leading_target):
-                found.append((highest, leading, 1 << others))
-            if target < leading_target:
-                others += 1
-    return found
+    quarters = 0
+    for target, crossing in zip(targets, crossings(targets)):
+        as_highest = 1 << (target - crossing)
+        quarters += (1 << target) - as_highest
+        if flips >> target & 1 == 1:
+            quarters += 2 * as_highest
+    return (quarters << len(targets)) // 4
+
+
+def _sources(targets):
+    """For each target the bit that goes to it."""
+    sources = [0] * len(targets)
+    for bit, target in enumerate(targets):
+        sources[target] = bit
+    return sources

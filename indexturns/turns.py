@@ -123,6 +123,18 @@ def split_into_cycles(targets):
     return cycles
 
 
+def crossings(targets):
+    """For each bit how many of the bits above it have targets below its own."""
+    found = []
+    targets_left = list(range(len(targets)))
+    for target in targets:
+        # Of the targets below this one, those that are left are the ones of bits above.
+        crossing = targets_left.index(target)
+        targets_left.pop(crossing)
+        found.append(crossing)
+    return found
+
+
 def visits_of_two_rounds(cycle, flips):
     """The tuples (bit, value) that one value comes to, turn by turn, twice round a bit cycle.
 

@@ -29,6 +29,26 @@ def told_unlike(ahead, behind):
                 if (ahead[one] < ahead[other]) != (behind[one] < behind[other])])
 
 
+def told_by_bits(turn):
+    """How many pairs change their order, told by point [10] for each two of the bits in which places can differ."""
+    targets, pairs = turn.targets, 0
+    for highest, leading in itertools.product(range(turn.bits), repeat=2):
+        if leading > highest or targets[highest] > targets[leading]:
+            continue
+        others = len([bit for bit in range(highest) if targets[bit] < targets[leading]])
+        if highest != leading:
+            pairs += 2 ** others * 2 ** (turn.bits - 2)
+        elif turn.flips >> targets[leading] & 1:
+            pairs += 2 ** others * 2 ** (turn.bits - 1)
+    return pairs
+
+
+def drawn_turns():
+    """Turns of 50 to 100 bits, each with flips and without."""
+    found = [turn for bits in range(50, 101) for turn in some_turns(bits, 2, bits)]
+    return found + [Turn(turn.targets, 0) for turn in found]
+
+
 class WhereTest(unittest.TestCase):
     def test_defined_here(self):
         for call in (inversions, passed, unlike_pairs):
@@ -60,6 +80,49 @@ class FewBitsTest(unittest.TestCase):
             for turn, second in itertools.product(found, repeat=2):
                 self.assertEqual(unlike_pairs(turn, second), told_unlike(all_places(turn), all_places(second)),
                                  (turn.targets, turn.flips, second.targets, second.flips))
+
+
+class SumsTest(unittest.TestCase):
+    def test_passed_of_all_places_is_what_inversions_tells(self):
+        for bits in range(1, 10):
+            for turn in some_turns(bits, 4, 7) + [reversal(bits), shuffled(bits), backwards(bits)]:
+                self.assertEqual(sum(passed(turn, place) for place in range(2 ** bits)), inversions(turn))
+
+    def test_passed_against_all_items_of_nine_bits(self):
+        for turn in some_turns(9, 12, 13):
+            places = all_places(turn)
+            for place in range(2 ** 9):
+                self.assertEqual(passed(turn, place), told_passed(places, place))
+
+
+class DrawnTurnsTest(unittest.TestCase):
+    def test_inversions(self):
+        for turn in drawn_turns():
+            many = inversions(turn)
+            self.assertEqual(many, told_by_bits(turn))
+            self.assertEqual([inversions(inverse(turn)), unlike_pairs(turn, identity(turn.bits))], [many] * 2)
+
+    def test_unlike_pairs(self):
+        found = drawn_turns()
+        for turn, second in zip(found, found[1:] + found[:1]):
+            if turn.bits == second.bits:
+                many = unlike_pairs(turn, second)
+                self.assertEqual(many, told_by_bits(then(inverse(turn), second)))
+                self.assertEqual(unlike_pairs(second, turn), many)
+                self.assertEqual(unlike_pairs(then(reversal(turn.bits), turn), then(reversal(turn.bits), second)), many)
+            self.assertEqual(unlike_pairs(turn, turn), 0)
+            plain = Turn(turn.targets, 0)
+            self.assertEqual(unlike_pairs(turn, plain), inversions(Turn(list(range(turn.bits)), turn.flips)))
+
+    def test_passed(self):
+        chance = random.Random(12)
+        for turn in drawn_turns():
+            last = 2 ** turn.bits - 1
+            for place in (0, 1, last // 3, last - 1, last, chance.randrange(last)):
+                up = passed(turn, place)
+                self.assertIn(up, range(place + 1))
+                self.assertEqual(up - passed(inverse(turn), turn.goes_to(place)), place - turn.goes_to(place))
+                self.assertEqual(passed(then(turn, backwards(turn.bits)), place), place - up)
 
 
 class HundredBitsTest(unittest.TestCase):
